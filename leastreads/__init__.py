@@ -1,0 +1,1 @@
+"""Leastreads: pieces, and the least reads that give back what is gone."""
