@@ -1,4 +1,8 @@
-"""What several files need: checks of any object, spots, and all tuples of integers."""
+"""What several files need: checks of any object, spots, tuples and groups of integers."""
+
+# Of a table, of what is stored, and of prices.
+MOST_PIECES = 6
+MOST_PARTS = 3
 
 
 def is_integer(value):
@@ -58,3 +62,11 @@ def all_tuples(limit, many):
     for _ in range(many):
         rows = [(*row, value) for row in rows for value in range(limit)]
     return rows
+
+
+def all_groups(many):
+    """Return the list of all ascending tuples of indexes below many, by their number, then ascending."""
+    groups = [()]
+    for index in range(many):
+        groups = [*groups, *[(*group, index) for group in groups]]
+    return sorted(sorted(groups), key=len)

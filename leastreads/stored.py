@@ -1,10 +1,10 @@
 """What is stored: the values of the parts of each piece, or None for a piece that is gone."""
 
-from leastreads.basics import all_between, are_pieces, has_items, is_between, is_spot, spots_of_parts
+from leastreads.basics import MOST_PARTS, MOST_PIECES, all_between, are_pieces, has_items, is_between, is_spot
+from leastreads.basics import spots_of_parts
 from leastreads.errors import InvalidOperand, InvalidPieces, InvalidSpots, InvalidStored
 
-MOST_PIECES = 6
-MOST_PARTS = 3
+# The greatest prime is 7.
 GREATEST_VALUE = 6
 
 

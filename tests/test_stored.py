@@ -3,7 +3,8 @@ import unittest
 from leastreads.errors import InvalidOperand, InvalidPieces, InvalidSpots, InvalidStored
 from leastreads.stored import Stored
 from leastreads.sums import Sum
-from support import NO_INTEGERS, NO_LISTS, ODD, raised
+from leastreads.tables import Table
+from support import NO_INTEGERS, NO_LISTS, ODD, data_of, raised
 
 WRONG_VALUES = [[], (), (0, 0, 0, 0), [0] * 4, (7,), (-1,), (0, 7), [0, -1], (0, True), [False], (0, None), [[0]]]
 
@@ -120,6 +121,47 @@ class StoredTest(unittest.TestCase):
         for other in others + ODD + [((2,), None, (0, 6, 1)), [(2,), None, (0, 6, 1)]]:
             self.assertFalse(self.stored == other)
             self.assertTrue(self.stored != other)
+
+
+class StoredByTablesTest(unittest.TestCase):
+    def setUp(self):
+        self.table = Table(3, 2, [[(1, 0)], [(0, 1)], [(1, 1), (1, 2)]])
+
+    def test_example(self):
+        stored = self.table((2, 1))
+        found = [stored.pieces, stored.bent(1, (0,)) - stored, stored.without([0]).gone, list(stored.without([0]))]
+        self.assertEqual(found, [((2,), (1,), (0, 1)), (1,), (0,), [(1, 0), (2, 0), (2, 1)]])
+        self.assertEqual(stored[2, 1], 1)
+
+    def test_what_a_table_stores_fits_it(self):
+        for data in data_of(3, 2):
+            stored = self.table(data)
+            self.assertIs(stored.fits(self.table), True)
+            self.assertEqual(list(stored), list(self.table))
+            self.assertEqual([stored[spot] for spot in stored], [self.table[spot](data) for spot in self.table])
+            for pieces in [[0], [1, 2], [0, 1, 2]]:
+                self.assertIs(stored.without(pieces).fits(self.table), True)
+
+    def test_what_does_not_fit_a_table(self):
+        stored = self.table((2, 1))
+        self.assertIs(stored.bent(0, (3,)).fits(self.table), False)
+        self.assertIs(stored.bent(0, (3,)).fits(Table(5, 2, self.table.pieces)), True)
+        self.assertIs(stored.bent(0, (0, 0)).fits(self.table), False)
+        self.assertIs(stored.bent(0, (0, 0)).without([0]).fits(self.table), True)
+        self.assertIs(stored.fits(self.table.ordered([2, 0, 1])), False)
+        self.assertIs(stored.fits(Table(3, 2, self.table.pieces[:2])), False)
+        self.assertIs(stored.fits(Table(2, 2, [[(1, 0)], [(0, 1)], [(1, 1), (1, 0)]])), False)
+        self.assertIs(self.table((1, 0)).fits(Table(2, 1, [[(1,)], [(1,)], [(1,), (1,)]])), True)
+
+    def test_wrong_pieces_are_those_that_differ(self):
+        for data in data_of(3, 2):
+            stored = self.table(data)
+            for piece, count in enumerate([1, 1, 2]):
+                for values in data_of(3, count):
+                    wrong = () if values == stored.pieces[piece] else (piece,)
+                    self.assertEqual(stored.bent(piece, values) - stored, wrong)
+                    self.assertEqual(stored - stored.bent(piece, values), wrong)
+                    self.assertEqual(stored.bent(piece, values).without([piece]) - stored, ())
 
 
 if __name__ == "__main__":
