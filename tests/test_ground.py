@@ -111,13 +111,18 @@ class HaveTest(unittest.TestCase):
             self.assertIs(is_have(EXAMPLE, spots, item, value), False)
 
     def test_a_factor_0_is_none_of_a_combination(self):
-        told = (((0, 0), 1), ((1, 0), 0))
-        self.assertIs(is_have(EXAMPLE, [(0, 0), (1, 0)], Sum(3, (1, 0)), ("combination", told)), False)
-        self.assertIs(is_have(EXAMPLE, [(0, 0), (1, 0)], Sum(3, (1, 0)), ("combination", told[:1])), True)
+        spots, item = [(0, 0), (1, 0)], Sum(3, (1, 0))
+        self.assertIs(is_have(EXAMPLE, spots, item, ("combination", (((0, 0), 1),))), True)
+        for factor in [0, 3, -3, 6]:
+            self.assertIs(is_have(EXAMPLE, spots, item, ("combination", (((0, 0), 1), ((1, 0), factor)))), False)
+        for factor in [4, -2, 7]:
+            self.assertIs(is_have(EXAMPLE, spots, item, ("combination", (((0, 0), factor),))), False)
 
     def test_what_is_no_blind_data(self):
         item = Sum(3, (1, 0))
         self.assertIs(is_have(EXAMPLE, [(1, 0)], item, ("blind", (2, 0))), True)
+        for word in ["other", "Blind", "combination", "", b"blind", None, EqualToAll()]:
+            self.assertIs(is_have(EXAMPLE, [(1, 0)], item, (word, (2, 0))), False)
         wrong = [[1, 0], (0, 0), (0, 1), (1, 1), (1,), (1, 0, 0), (4, 0), (-1, 0), (True, 0), (1, False), (1.0, 0)]
         for told in wrong + ODD + [0, (), []]:
             self.assertIs(is_have(EXAMPLE, [(1, 0)], item, ("blind", told)), False)
@@ -160,6 +165,14 @@ class FatalTest(unittest.TestCase):
         half = Table(3, 2, [[(1, 0)], [(2, 0)]])
         self.assertEqual(fatal(half, [Sum(3, (1, 0)), Sum(3, (0, 1))]), [((), (0, 1))])
         self.assertEqual(fatal(table=half, wishes=[Sum(3, (1, 0))]), [((0, 1), (1, 0))])
+
+    def test_sets_of_one_number_ascend(self):
+        table = Table(2, 2, [[(1, 0)], [(0, 1)], [(0, 1)], [(1, 0)]])
+        told = fatal(table, [Sum(2, (1, 0)), Sum(2, (0, 1))])
+        self.assertEqual(told, [((0, 3), (1, 0)), ((1, 2), (0, 1))])
+        table = Table(2, 3, [[(1, 0, 0)], [(0, 1, 0)], [(0, 0, 1)], [(0, 0, 1)], [(0, 1, 0), (1, 0, 0)]])
+        units = [Sum.unit(2, 3, index) for index in range(3)]
+        self.assertEqual(fatal(table, units), [((0, 4), (1, 0, 0)), ((1, 4), (0, 1, 0)), ((2, 3), (0, 0, 1))])
 
     def test_all_pieces_together_can_be_the_only_fatal_set(self):
         table = Table(2, 1, [[(1,)]] * 6)
