@@ -73,3 +73,9 @@ class Prices:
         for piece, part in spots:
             prices[piece] = prices.get(piece, 0) + self._parts[piece][part]
         return prices
+
+
+def expect_prices(table, cost):
+    """Raise InvalidCost for any object that is not Prices that fit the table."""
+    if not isinstance(cost, Prices) or not cost.fits(table):
+        raise InvalidCost(cost)

@@ -1,25 +1,10 @@
 import unittest
-from itertools import combinations, product
+from itertools import product
 
 from leastreads.costs import Prices
 from leastreads.errors import InvalidCost, InvalidSpots
 from leastreads.tables import Table
-from support import NO_INTEGERS, NO_LISTS, ODD, EqualToAll, raised
-
-
-def subsets(rows):
-    return [chosen for many in range(len(rows) + 1) for chosen in combinations(rows, many)]
-
-
-def cost_of(parts, wholes, opens, spots):
-    """Return the cost of spots and the paid spots."""
-    cost, paid = 0, set(spots)
-    for piece in {piece for piece, _ in spots}:
-        price = sum(parts[piece][part] for other, part in spots if other == piece)
-        cost += opens[piece] + (wholes[piece] if wholes[piece] <= price else price)
-        if wholes[piece] <= price:
-            paid |= {(piece, part) for part in range(len(parts[piece]))}
-    return cost, tuple(sorted(paid))
+from support import NO_INTEGERS, NO_LISTS, ODD, EqualToAll, cost_of, raised, subsets
 
 
 CASES = [

@@ -1,11 +1,13 @@
 import unittest
-from itertools import combinations, product
+from itertools import product
 
 from leastreads.errors import InvalidSpots, InvalidSum, InvalidWishes
 from leastreads.ground import fatal, have, is_have
 from leastreads.sums import Sum
 from leastreads.tables import Table
-from support import NO_LISTS, ODD, EqualToAll, data_of, raised, span_of, value_of, zeros_of
+from support import (
+    NO_LISTS, ODD, EqualToAll, data_of, raised, rows_at, span_of, subsets, sum_of, value_of, zeros_of,
+)  # fmt: skip
 
 EXAMPLE = Table(3, 2, [[(1, 0)], [(0, 1)], [(1, 1)]])
 TABLES = [
@@ -20,20 +22,6 @@ TABLES = [
     Table(5, 2, [[(3, 1)], [(1, 2), (4, 4)]]),
     Table(7, 1, [[(0,)], [(3,), (5,)]]),
 ]
-
-
-def subsets(rows):
-    return [list(chosen) for many in range(len(rows) + 1) for chosen in combinations(rows, many)]
-
-
-def rows_at(table, spots):
-    return [table.pieces[piece][part] for piece, part in spots]
-
-
-def sum_of(table, combination):
-    """Return the factors of what a combination gives."""
-    rows = [(table.pieces[piece][part], factor) for (piece, part), factor in combination]
-    return tuple(sum(row[place] * factor for row, factor in rows) % table.prime for place in range(table.size))
 
 
 class HaveTest(unittest.TestCase):
