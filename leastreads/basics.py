@@ -56,6 +56,14 @@ def spots_of_parts(pieces):
     return tuple([(piece, part) for piece, parts in there for part in range(len(parts))])
 
 
+def power(number, times):
+    """Return a number multiplied by itself so many times."""
+    result = 1
+    for _ in range(times):
+        result = result * number
+    return result
+
+
 def all_tuples(limit, many):
     """Return the ascending list of all tuples of so many integers from 0 to limit - 1."""
     rows = [()]

@@ -80,15 +80,29 @@ def are_wishes(table, value):
     return has_items(value, 1, MOST_WISHES) and all([is_sum(table.prime, table.size, item) for item in value])
 
 
-def fatal(table, wishes):
-    """Return the list of the least fatal sets of pieces, each with the first data that show it."""
-    if not are_wishes(table, wishes):
-        raise InvalidWishes(wishes)
+def least_losses(table, wishes, losses):
+    """Return the list of (group, data) of the least groups by whose loss not all wishes can be had.
+
+    Losses are tuples (group, pieces) with the pieces that are gone then, the groups by their number, then ascending;
+    the data are the first ones for which all parts of the other pieces are 0 and some wish is not.
+    """
     found = []
-    for group in all_groups(len(table)):
-        if not any([all([piece in group for piece in smaller]) for smaller, _ in found]):
-            left = table.spots_of([piece for piece in range(len(table)) if piece not in group])
+    for group, gone in losses:
+        if not any([all([item in group for item in smaller]) for smaller, _ in found]):
+            left = table.spots_of([piece for piece in range(len(table)) if piece not in gone])
             data = blind_for(table.space(left), wishes)
             if data is not None:
                 found.append((group, data))
     return found
+
+
+def fatal(table, wishes):
+    """Return the list of the least fatal sets of pieces, each with the first data that show it."""
+    if not are_wishes(table, wishes):
+        raise InvalidWishes(wishes)
+    return least_losses(table, wishes, [(group, group) for group in all_groups(len(table))])
+
+
+def units_of(table):
+    """Return the list of the units of all data values of a table."""
+    return [Sum.unit(table.prime, table.size, index) for index in range(table.size)]

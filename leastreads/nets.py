@@ -4,7 +4,7 @@ from leastreads.basics import all_between, all_groups, are_spots, has_items, is_
 from leastreads.costs import GREATEST_PRICE, Prices
 from leastreads.errors import InvalidCost, InvalidSpots, InvalidStored
 from leastreads.ground import is_combination
-from leastreads.stored import Stored
+from leastreads.tables import is_stored
 
 GREATEST_RACK = 4
 MOST_LINKS = 10
@@ -147,9 +147,7 @@ def sent(net, table, combination, stored):
     tree = net.tree([spot for spot, _ in combination])
     if tree is None:
         raise InvalidSpots(combination)
-    if not isinstance(stored, Stored) or not stored.fits(table):
-        raise InvalidStored(stored)
-    if not all([spot in stored for spot, _ in combination]):
+    if not is_stored(table, stored) or not all([spot in stored for spot, _ in combination]):
         raise InvalidStored(stored)
     values = {}
     for spot, factor in combination:

@@ -7,7 +7,7 @@ from leastreads.errors import InvalidCost, InvalidNumber, InvalidSpots, InvalidS
 from leastreads.ground import are_wishes, combination_for
 from leastreads.nets import Net
 from leastreads.points import first_of
-from leastreads.stored import Stored
+from leastreads.tables import is_stored
 
 
 def expect_cost(table, cost):
@@ -61,7 +61,7 @@ class Reads:
 
     def __call__(self, stored):
         """Return the tuple of the values of the wishes by the stored values."""
-        if not isinstance(stored, Stored) or not stored.fits(self._table):
+        if not is_stored(self._table, stored):
             raise InvalidStored(stored)
         lacking = tuple([spot for spot in self._spots if spot not in stored])
         if len(lacking) > 0:

@@ -30,14 +30,18 @@ def expect_rebuildable(table, sight, pieces):
         raise Lost(sight.data_of(first_of(unseen))[0])
 
 
+def others_of(pieces, group):
+    """Return the tuple of those of some pieces that are not in a group."""
+    return tuple([piece for piece in pieces if piece not in group])
+
+
 def best_step(table, choices, left, heights):
     """Return (height, piece, spots) for the first of some pieces that are left to rebuild."""
     options = []
     for piece in left:
         wished = choices.sight.by_spots(table.spots_of([piece]))
         price, spots = choices.first(wished, left)
-        then = tuple([other for other in left if other != piece])
-        options.append((price + heights[then], piece, spots))
+        options.append((price + heights[others_of(left, (piece,))], piece, spots))
     return min(options)
 
 
@@ -59,6 +63,6 @@ def in_order(table, cost, pieces):
     while len(left) > 0:
         step = steps[left]
         told.append(step)
-        left = tuple([piece for piece in left if piece != step[0]])
-    rests = [(group, tuple([piece for piece in pieces if piece not in group])) for group in groups]
-    return (heights[tuple(pieces)], tuple(told), tuple([(group, heights[rest]) for group, rest in rests]))
+        left = others_of(left, step[:1])
+    told_heights = tuple([(group, heights[others_of(pieces, group)]) for group in groups])
+    return (heights[tuple(pieces)], tuple(told), told_heights)

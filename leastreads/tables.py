@@ -104,3 +104,8 @@ class Table:
         if sorted(order) != list(range(many)):
             raise InvalidPieces(order)
         return Table(self._prime, self._size, [self._pieces[piece] for piece in order])
+
+
+def is_stored(table, value):
+    """Return whether any object is a Stored of the table."""
+    return isinstance(value, Stored) and value.fits(table)

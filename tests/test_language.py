@@ -42,7 +42,7 @@ STATEMENTS = (
     ast.ImportFrom,
 )  # fmt: skip
 ITERATING = "list tuple dict sorted sum min max any all enumerate zip".split()
-AT_ONCE = "zip enumerate reversed".split()
+AT_ONCE = "zip enumerate reversed range items keys values map".split()
 
 
 def nodes(kinds):
