@@ -99,9 +99,9 @@ def extras(table, cost, gone, spots):
     expect_cost(table, cost)
     if not are_spots(gone, list(table)):
         raise InvalidSpots(gone)
-    if not are_spots(spots, list(table)):
-        raise InvalidSpots(spots)
-    return table.space([spot for spot in cost.paid(spots) if spot not in gone])
+    # The cost, which has just the spots of the table, raises InvalidSpots for wrong ones.
+    paid = cost.paid(spots)
+    return table.space([spot for spot in paid if spot not in gone])
 
 
 def cheaper(table, cost, gone, bound):

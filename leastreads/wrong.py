@@ -1,7 +1,7 @@
 """Wrong pieces: what explains what is stored, what is agreed, and how many wrong pieces can be seen."""
 
-from leastreads.basics import all_groups, all_tuples, are_pieces
-from leastreads.errors import InvalidPieces, InvalidStored, InvalidWishes, Unsure
+from leastreads.basics import all_groups, all_tuples
+from leastreads.errors import InvalidStored, InvalidWishes, Unsure
 from leastreads.ground import are_wishes
 from leastreads.points import all_values
 from leastreads.spaces import reduced_rows
@@ -105,9 +105,8 @@ def agreed(table, stored, wishes):
 
 def strength(table, gone=()):
     """Return (strength, data) of a table, some pieces of which are gone, with the first data that show it."""
-    if not are_pieces(gone, len(table)):
-        raise InvalidPieces(gone)
     # To store a value that is not 0 means to differ from what all zeros store, which come first of all data.
+    # What is stored raises InvalidPieces for wrong pieces.
     blank = table((0,) * table.size).without(gone)
     rows = list(zip(wrong_pieces(table, blank), all_tuples(table.prime, table.size)))[1:]
     number = min([len(pieces) for pieces, _ in rows])
