@@ -4,6 +4,8 @@
 MOST_PIECES = 6
 MOST_PARTS = 3
 
+LONGEST_NAME = 8
+
 
 def is_integer(value):
     """Return whether any object is an integer; True and False are none."""
@@ -23,6 +25,13 @@ def has_items(value, least, most):
 def all_between(items, low, high):
     """Return whether all items of a list or tuple are integers from low to high."""
     return all([is_between(item, low, high) for item in items])
+
+
+def is_name(value):
+    """Return whether any object is a name: one to eight of the letters a to z."""
+    if not isinstance(value, str) or len(value) > LONGEST_NAME:
+        return False
+    return value.isascii() and value.isalpha() and value.islower()
 
 
 def is_ascending(items):

@@ -48,6 +48,11 @@ def given_sum(table, combination):
     return total
 
 
+def given_value(table, combination, stored):
+    """Return the value that a combination gives of what is stored at its spots."""
+    return sum([factor * stored[spot] for spot, factor in combination]) % table.prime
+
+
 def is_blind(table, spots, items, value):
     """Return whether any object is data for which all these spots are 0 and some of these Sums is not."""
     if not isinstance(value, tuple) or not is_data(table.prime, table.size, value):

@@ -37,7 +37,7 @@ class Mover:
         self._told = {}
 
     def reads(self, where, piece):
-        """Return (cost, spots) of the least reads of a piece's parts."""
+        """Return (cost, spots) of the least reads of a piece's parts, or None if they cannot be had."""
         gone = tuple([other for other, place in enumerate(where) if place is None])
         if (gone, piece) not in self._told:
             wished = self._choices.sight.by_spots(self._table.spots_of([piece]))
@@ -45,15 +45,13 @@ class Mover:
         return self._told[gone, piece]
 
     def steps(self, where):
-        """Return the list of tuples (piece, machine, cost) of all steps that can be taken.
-
-        All parts must be there to be had, as they are where a placing survives.
-        """
+        """Return the list of tuples (piece, machine, cost) of all steps that can be taken."""
         roomy = [machine for machine in self._machines if where.count(machine) < self._limit]
         rows = []
         for piece, place in enumerate(where):
-            price = self.reads(where, piece)[0]
-            rows.extend([(piece, machine, price) for machine in roomy if machine != place])
+            found = self.reads(where, piece)
+            if found is not None:
+                rows.extend([(piece, machine, found[0]) for machine in roomy if machine != place])
         return rows
 
     def is_end(self, where):
@@ -96,8 +94,7 @@ def search(mover, bars, start, low, high):
 def move(table, cost, placing, low, high, limit, closed=()):
     """Return (cost, steps, blocks): the least way to a placing that survives high, and why no way costs less."""
     expect_move(table, cost, placing, low, high, limit, closed)
-    machines = [machine for machine in range(placing.machines) if machine not in closed]
-    mover = Mover(table, cost, limit, machines)
+    mover = Mover(table, cost, limit, [machine for machine in range(placing.machines) if machine not in closed])
     price, pairs, blocks = search(mover, fatal(table, units_of(table)), placing.where, low, high)
     if price is None:
         raise NoWay(tuple(blocks))

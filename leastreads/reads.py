@@ -4,7 +4,7 @@ from leastreads.basics import are_spots, is_integer
 from leastreads.choices import Choices
 from leastreads.costs import Prices
 from leastreads.errors import InvalidCost, InvalidNumber, InvalidSpots, InvalidStored, InvalidWishes, Lost
-from leastreads.ground import are_wishes, combination_for
+from leastreads.ground import are_wishes, combination_for, given_value
 from leastreads.nets import Net
 from leastreads.points import first_of
 from leastreads.tables import is_stored
@@ -66,8 +66,7 @@ class Reads:
         lacking = tuple([spot for spot in self._spots if spot not in stored])
         if len(lacking) > 0:
             raise InvalidSpots(lacking)
-        rows = [[factor * stored[spot] for spot, factor in row] for row in self._combinations]
-        return tuple([sum(row) % self._table.prime for row in rows])
+        return tuple([given_value(self._table, row, stored) for row in self._combinations])
 
     def __eq__(self, other):
         return (
@@ -79,16 +78,21 @@ class Reads:
         )
 
 
+def least_seeing(choices, wished, gone=()):
+    """Return (cost, spots) of the least set without these pieces that sees all wished points; raise Lost for none."""
+    found = choices.first(wished, gone)
+    if found is None:
+        unseen = wished & ~choices.sight.by_spots([spot for spot in choices.there if spot[0] not in gone])
+        raise Lost(choices.sight.data_of(first_of(unseen))[0])
+    return found
+
+
 def least(table, cost, gone, wishes):
     """Return the least Reads by which all wishes can be had from the spots that are not gone."""
     expect_question(table, cost, gone, wishes)
     choices = Choices(table, cost, gone)
     wished = choices.sight.by_sums(wishes)
-    found = choices.first(wished)
-    if found is None:
-        unseen = wished & ~choices.sight.by_spots(choices.there)
-        raise Lost(choices.sight.data_of(first_of(unseen))[0])
-    price, spots = found
+    price, spots = least_seeing(choices, wished)
     combinations = [combination_for(table, spots, item) for item in wishes]
     blinds = choices.sight.data_of(choices.refuting(wished, price))
     return Reads(table, spots, price, combinations, blinds)

@@ -244,9 +244,10 @@ class LanguageTest(unittest.TestCase):
                 told = ast.unparse(node.body[-1])
                 self.assertRegex(told, r"^return isinstance\(other, \w+\)( and \(?self\.(\w+) == other\.\2\)?)+$", name)
             if node.name == "__len__":
-                self.assertRegex(ast.unparse(node.body[-1]), r"^return len\(self\.\w+\)$", name)
+                self.assertRegex(ast.unparse(node.body[-1]), r"^return len\(self(\.\w+)+\)$", name)
             if node.name == "__iter__":
-                self.assertRegex(ast.unparse(node.body[-1]), r"^return iter\(self\.\w+\)$", name)
+                told = ast.unparse(node.body[-1])
+                self.assertRegex(told, r"^return iter\(self\.\w+\)$|^raise TypeError\('[a-z ,]+'\)$", name)
 
 
 if __name__ == "__main__":
