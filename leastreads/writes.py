@@ -1,6 +1,6 @@
 """Writes: what they touch, what can be had at each moment of them, and what is recovered of a mixture."""
 
-from leastreads.basics import all_between, all_groups, are_pieces, has_items, is_between, is_integer
+from leastreads.basics import all_between, all_groups, are_pieces, has_items, is_integer
 from leastreads.errors import InvalidChange, InvalidData, InvalidNumber, InvalidPieces, LimitExceeded, Unsure
 from leastreads.ground import combination_for, given_value, is_blind
 from leastreads.points import Sight, first_of

@@ -242,7 +242,8 @@ class LanguageTest(unittest.TestCase):
         for name, node in nodes(ast.FunctionDef):
             if node.name == "__eq__":
                 told = ast.unparse(node.body[-1])
-                self.assertRegex(told, r"^return isinstance\(other, \w+\)( and \(?self\.(\w+) == other\.\2\)?)+$", name)
+                plain = r"^return isinstance\(other, \w+\)( and \(?self\.([\w.]+(\(\))?) == other\.\2\)?)+$"
+                self.assertRegex(told, plain, name)
             if node.name == "__len__":
                 self.assertRegex(ast.unparse(node.body[-1]), r"^return len\(self(\.\w+)+\)$", name)
             if node.name == "__iter__":
