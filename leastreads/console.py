@@ -33,8 +33,8 @@ def is_command(words):
 
 def plain_prices(table):
     """Return the Prices 1 for each part, 2 for each whole piece and 0 for opening."""
-    parts = [[1 for _ in parts] for parts in table.pieces]
-    return Prices(parts, [2 for _ in parts], [0 for _ in parts])
+    many = len(table)
+    return Prices([(1,) * len(parts) for parts in table.pieces], (2,) * many, (0,) * many)
 
 
 def expect_written(word, is_right):

@@ -299,6 +299,8 @@ class Store:
     def copy(self):
         """Return an independent store."""
         other = Store(self._table, self._cost, self._machines)
+        # Plans and states never depend on what a store does later.
+        other._plans = self._plans
         other._state = self._state
         return other
 

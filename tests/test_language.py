@@ -36,6 +36,9 @@ NOT_NAMED = (
     "attrgetter breakpoint builtins compile copyright credits delattr dir eval exec exit gc getattr globals hasattr "
     "help id importlib license locals methodcaller os quit setattr vars sys"
 ).split()
+# A shell adds `_` to them.
+BUILT_IN = set(dir(builtins)) - {"_"}
+CHANGING = "append clear extend insert pop remove reverse setdefault update sort add discard".split()
 STATEMENTS = (
     ast.Assign, ast.AugAssign, ast.If, ast.While, ast.For, ast.Return, ast.Break, ast.Continue, ast.Pass, ast.Raise,
     ast.Assert, ast.Delete, ast.Nonlocal, ast.Match, ast.With, ast.Try, ast.Expr, ast.FunctionDef, ast.ClassDef,
@@ -79,6 +82,46 @@ def is_iterated(node, around):
     if isinstance(around, ast.Call) and isinstance(around.func, ast.Attribute):
         return around.func.attr == "join"
     return isinstance(around, ast.YieldFrom)
+
+
+def defined_by_name():
+    """Return the dict from each name to all functions, methods and constructors that a call of it can mean."""
+    found = {}
+    for tree in TREES.values():
+        for node in tree.body:
+            rows = [node] if isinstance(node, ast.FunctionDef) else []
+            if isinstance(node, ast.ClassDef):
+                methods = [row for row in node.body if isinstance(row, ast.FunctionDef)]
+                found.setdefault(node.name, []).extend(row for row in methods if row.name == "__init__")
+                rows = [row for row in methods if row.name != "__init__"]
+            for row in rows:
+                found.setdefault(row.name, []).append(row)
+    return found
+
+
+def run_by_signs_and_properties():
+    """Return the list of all functions that operators, comparisons, lens and properties run, by the names they call."""
+    found = defined_by_name()
+    fresh = [row for rows in found.values() for row in rows if row.name not in ("__init__", "__call__", "__enter__", "__exit__")
+             and (row.name.startswith("__") or "property" in map(ast.unparse, row.decorator_list))]  # fmt: skip
+    told = []
+    while fresh:
+        node = fresh.pop()
+        if node not in told:
+            told.append(node)
+            for call in ast.walk(node):
+                if isinstance(call, ast.Call):
+                    fresh += found.get(ast.unparse(call.func).rpartition(".")[2], [])
+    return told
+
+
+def own_lists(node):
+    """Return the names that a function assigns nothing but lists that it creates itself."""
+    rows = [row for row in ast.walk(node) if isinstance(row, ast.Assign)]
+    names = {target.id for row in rows for target in row.targets if isinstance(target, ast.Name)}
+    other = {target.id for row in rows for target in row.targets
+             if isinstance(target, ast.Name) and not isinstance(row.value, (ast.List, ast.ListComp))}  # fmt: skip
+    return names - other
 
 
 class LanguageTest(unittest.TestCase):
@@ -163,9 +206,9 @@ class LanguageTest(unittest.TestCase):
             self.assertEqual(len(top), len(set(top)), name)
 
     def test_builtins(self):
-        used = [(n, node) for n, node in nodes(ast.Name) if hasattr(builtins, node.id)]
+        used = [(n, node) for n, node in nodes(ast.Name) if node.id in BUILT_IN]
         self.none([(n, node) for n, node in used if node.id not in BUILTINS])
-        self.none([(n, node) for n, node, told in bound_names() if hasattr(builtins, told)])
+        self.none([(n, node) for n, node, told in bound_names() if told in BUILT_IN])
 
     def test_decorators_and_defaults(self):
         for name, node in nodes(ast.FunctionDef):
@@ -225,6 +268,28 @@ class LanguageTest(unittest.TestCase):
             if any(isinstance(row, (ast.Yield, ast.YieldFrom)) for row in ast.walk(node)):
                 self.assertEqual(names.count(node.name), 1, node.name)
                 self.assertNotIn(node.name, METHODS)
+
+    def test_operators_and_properties_change_nothing(self):
+        found = run_by_signs_and_properties()
+        self.assertIn("history", [node.name for node in found])
+        for node in found:
+            for row in ast.walk(node):
+                if isinstance(row, (ast.Attribute, ast.Subscript)) and not isinstance(row.ctx, ast.Load):
+                    self.assertEqual((node.name, ast.unparse(row)[:5]), ("__init__", "self."))
+                self.assertNotIsInstance(row, (ast.AugAssign, ast.Delete), node.name)
+                if isinstance(row, ast.Call) and isinstance(row.func, ast.Attribute) and row.func.attr in CHANGING:
+                    self.assertIn(ast.unparse(row.func.value), own_lists(node), node.name)
+
+    def test_operators_and_properties_call_nothing_that_they_hold(self):
+        names = {*defined_by_name(), *BUILTINS, *METHODS}
+        names |= {node.name for tree in TREES.values() for node in tree.body if isinstance(node, ast.ClassDef)}
+        for node in run_by_signs_and_properties():
+            given = {item.arg for item in node.args.args}
+            for row in ast.walk(node):
+                if isinstance(row, ast.Call):
+                    told = ast.unparse(row.func)
+                    self.assertIn(told.rpartition(".")[2], names, f"{node.name}: {told}")
+                    self.assertNotIn(told, given, f"{node.name}: {told}")
 
     def test_identity_is_asked_of_none_and_truths_alone(self):
         for name, node in nodes(ast.Compare):
