@@ -108,6 +108,12 @@ class AnswersTest(unittest.TestCase):
         console = Console()
         console.run("table table 2 2; piece 1,0 0,1 1,1; piece 1,0; piece 0,1")
         self.assertEqual(console.run("least - 1,0 0,1"), "2 0.0 0.1")
+        # A whole piece costs 2, also for its three parts, and opening costs nothing.
+        other = Console()
+        other.run("table table 2 3; piece 1,0,0 0,1,0 0,0,1; piece 1,1,1")
+        self.assertEqual(other.run("least - 1,0,0 0,1,0 0,0,1"), "2 0.0 0.1 0.2")
+        self.assertEqual(other.run("least 0.0 1,0,0 0,1,0 0,0,1"), "3 0.1 0.2 1.0")
+        self.assertEqual(other.run("least - 1,1,1"), "1 1.0")
         console.run("cost prices; 0 9 5 5 5; 1 1 1; 0 1 1")
         self.assertEqual(console.run("least - 1,0 0,1"), "3 1.0 2.0")
         console.run("cost prices; 0 1 1 1 1; 0 1 1; 0 1 1; home 0; racks 1 0 0; link 0 1 7")

@@ -116,14 +116,14 @@ class AlikeTest(unittest.TestCase):
         self.assertEqual(alike(zero, zero)[0], (0, 1))
 
     def test_equal_sizes_do_not_tell_that_tables_are_alike(self):
-        # Over the prime 5 four pieces with one part of two values have one more number that tells them apart.
-        one = Table(5, 2, [[(1, 0)], [(0, 1)], [(1, 1)], [(1, 2)]])
-        other = Table(5, 2, [[(1, 0)], [(0, 1)], [(1, 1)], [(1, 4)]])
-        self.assertEqual(sizes(one), sizes(other))
-        changes = changes_of(5, 2)
-        for left, right in [(one, other), (other, one), (one, one)]:
-            order = first_order(left, right, changes)
-            self.assertEqual(None if order is None else order, None if alike(left, right) is None else alike(left, right)[0])
+        # Of four points on a line their cross-ratio stays; 2 and 4 have the same orders of it, 2 and 3 have not.
+        tables = [Table(7, 2, [[(1, 0)], [(0, 1)], [(1, 1)], [(1, ratio)]]) for ratio in [2, 4, 3]]
+        changes = changes_of(7, 2)
+        for left, right, are in [(0, 1, True), (0, 2, False), (2, 0, False), (1, 2, False), (2, 2, True)]:
+            one, other = tables[left], tables[right]
+            self.assertEqual(sizes(one), sizes(other))
+            value = alike(one, other)
+            self.assertEqual((value is not None, None if value is None else value[0]), (are, first_order(one, other, changes)))
 
     def test_altered_in_each_place(self):
         for random, one, other in pairs(503, 66):

@@ -315,6 +315,20 @@ class ScrubTest(unittest.TestCase):
             for price, _, spots in all_choices(table, prices, gone):
                 self.check(table, prices, gone, watched, most, (spots, price, everything))
 
+    def test_refuters_of_pieces_that_are_not_watched(self):
+        # The pieces 1 and 2 are not watched: a refuter of them would refute what is cheaper, but is none.
+        spots, cost, refuters = scrub(TABLE, PRICES, [], [0], 2)
+        self.assertTrue(self.check(TABLE, PRICES, [], [0], 2, (spots, cost, refuters)))
+        self.assertGreater(len(refuters), 0)
+        for other in [((1,), (0, 1)), ((0, 1), (1, 0)), ((0, 4), (1, 0)), ((), (1, 0)), ((0, 0), (1, 0)), ((-1,), (1, 0))]:
+            self.assertFalse(self.check(TABLE, PRICES, [], [0], 2, (spots, cost, (*refuters, other))))
+        for table, prices, gone, watched, most, (spots, cost, refuters) in self.papers(227, 60):
+            for piece in range(len(table)):
+                for data in data_of(table.prime, table.size)[1:3]:
+                    value = (spots, cost, (*refuters, ((piece,), data)))
+                    told = self.check(table, prices, gone, watched, most, value)
+                    self.assertFalse(told and piece not in watched)
+
     def test_unseen_is_not_raised(self):
         gone = [(1, 0), (2, 0), (3, 0)]
         for value in [None, (((0, 0),), 5, ()), (((0, 0),), 5, (((0,), (1, 0)),))]:
@@ -489,6 +503,23 @@ class WayTest(unittest.TestCase):
             told.append(self.check(plain, placing, (cost, (*wider, *steps[1:]), blocks)))
         self.assertGreater(told.count(True), 40)
         self.assertGreater(told.count(False), 40)
+
+    def test_further_blocks(self):
+        random = Random(248)
+        told = []
+        for plain, placing, (cost, steps, blocks) in self.papers(249, 40):
+            places = [None, *range(plain.machines)]
+            for _ in range(20):
+                where = tuple(random.choice(places) for _ in plain.table.pieces)
+                machines = random.choice(subsets(range(plain.machines)))
+                data = random.choice(data_of(plain.table.prime, plain.table.size))
+                told.append(self.check(plain, placing, (cost, steps, (*blocks, (where, machines, data)))))
+            for where in [(plain.machines,), (-1,), (True,), ("0",), (None, None)]:
+                block = (where + (0,) * (len(plain.table) - 1), tuple(range(plain.machines)), (1,) * plain.table.size)
+                self.assertFalse(self.check(plain, placing, (cost, steps, (*blocks, block))))
+            everything = ((0,) * len(plain.table), tuple(range(plain.machines)), (1,) * plain.table.size)
+            self.assertTrue(self.check(plain, placing, (cost, steps, (*blocks, everything))))
+        self.assertGreater(min(told.count(True), told.count(False)), 100)
 
     def test_papers_of_other_questions(self):
         for plain, placing, paper in self.papers(245, 60):

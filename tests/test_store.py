@@ -210,7 +210,8 @@ class WriteTest(unittest.TestCase):
     def test_wrong_changes(self):
         store = filled()
         wrong = [[], (), [(1, 0), (0, 0)], [(0, 0), (0, 1)], [(2, 0)], [(-1, 0)], [(0, 3)], [(0, -1)], [(0, True)], [(False, 0)],
-                 [[0, 1]], [(0,)], [(0, 1, 2)], [None], [0], [(0, "1")], [(0, 0), (1, 0), (2, 0)], [(0, None)]]  # fmt: skip
+                 [[0, 1]], [(0,)], [(0, 1, 2)], [None], [0], [(0, "1")], [(0, 0), (1, 0), (2, 0)], [(0, None)], [(0, 1), (1, 3)],
+                 [(0, 3), (1, 1)], [(0, 1), [1, 1]], [(0, 1), None]]  # fmt: skip
         for changes in NO_LISTS + wrong:
             self.assertIs(raised(InvalidChange, store.write, "one", 0, changes, -1).value, changes)
 
@@ -467,6 +468,12 @@ class MachinesTest(unittest.TestCase):
             self.assertIs(raised(InvalidPieces, store.spoil, "one", 0, piece, None).value, piece)
         for values in NO_LISTS + [[], [3], [-1], [True], [None], [0, 0], ["0"]]:
             self.assertIs(raised(InvalidStored, store.spoil, "one", 0, 0, values).value, values)
+        wide = Store(Table(3, 2, [[(1, 0), (0, 1)], [(1, 1)]]), Prices([[1, 1], [1]], [2, 1], [0, 0]), 2)
+        wide.put("one", [(1, 1)], [0, 1])
+        for values in [[0], [0, 3], [3, 0], [0, None], [False, 0], [0, 0, 0]]:
+            self.assertIs(raised(InvalidStored, wide.spoil, "one", 0, 0, values).value, values)
+        wide.spoil("one", 0, 0, (2, 0))
+        self.assertEqual(wide["one"][1][0].pieces, ((2, 0), (2,)))
         store.spoil(name="one", row=0, piece=2, values=[1])
         self.assertEqual(store.history()[-1], ("spoil", "one", 0, 2, (1,)))
         self.assertEqual(store["one"][1], (TABLE((2, 1)).bent(2, (1,)), TABLE((0, 0))))

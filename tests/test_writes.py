@@ -297,9 +297,12 @@ class MomentsTest(unittest.TestCase):
         value = ("blocked", [*safe_order(TABLE, [0], 1)[1], block])
         self.assertIs(is_safe_order(TABLE, [0], 1, value), False)
         self.assertIs(is_safe_order(TABLE, [0], 1, ("blocked", value[1][:-1])), True)
-        self.assertIs(is_safe_order(TABLE, [0], 0, ("order", (0, 2))), True)
-        for order in [(2, 0), (0,), (0, 1, 2), (0, 0, 2), (False, 2), [0, 2], (0, "2"), (0, None), ("0", "2"), ([], 0)]:
-            self.assertIs(is_safe_order(TABLE, [0], 0, ("order", order)), order == (2, 0))
+        # The same moment once more, but told by a list, or by True for 1.
+        first = value[1][0]
+        for written in [list(first[0]), first[0] + first[0], tuple(map(bool, first[0])), None]:
+            doubled = [*value[1][:-1], (written, *first[1:])]
+            self.assertIs(is_safe_order(TABLE, [0], 1, ("blocked", doubled)), False)
+        self.assertIs(is_safe_order(TABLE, [0], 1, ("blocked", [*value[1][:-1], first])), True)
 
     def test_any_object(self):
         for value in ODD + [0, [], (), ("order",), ["order", (0, 2)], ("order", (0, 2), 0), ("orders", (0, 2))]:
