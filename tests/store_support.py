@@ -4,9 +4,10 @@ from copy import deepcopy
 
 from leastreads import errors
 from leastreads.stored import Stored
+from leastreads.writes import mixed
 from net_support import is_zero_at, least_spots
-from paper_support import PlainWrite
-from support import data_of, is_proper_data, subsets, units_of, zeros_of, rows_at
+from paper_support import PlainWrite, is_combination
+from support import data_of, is_proper_data, rows_at, subsets, sum_of, units_of, zeros_of
 from test_placings import blind_at
 from test_wrong import parts_of
 
@@ -87,7 +88,8 @@ class Beside:
     def expect_had(self, row):
         """Raise Refused if the data of a row cannot be had; any data that show it are right."""
         if row["lost"]:
-            _, news = self.plain_write(row).blinds(row["written"], [s for s in range(len(self.table)) if row["pieces"][s] is not None])
+            there = [piece for piece, values in enumerate(row["pieces"]) if values is not None]
+            _, news = self.plain_write(row).blinds(row["written"], there)
             raise Refused(errors.Lost, is_right=lambda error: error.blind in news)
         blinds = zeros_of(self.table.prime, self.table.size, rows_at(self.table, self.spots_there(row)))[1:]
         if blinds:
@@ -95,11 +97,11 @@ class Beside:
 
     def expect_no_clash(self, row):
         if not self.fitting(row):
-            raise Refused(errors.Unsure, is_right=lambda error: self.is_clash(row, error.found))
+            raise Refused(errors.Unsure, is_right=lambda error: self.is_clash(row, error.found, self.table))
 
-    def is_clash(self, row, told, factors=None):
-        spots = [spot for spot, _ in told]
-        if spots != sorted(set(spots)) or not set(spots) <= set(self.spots_there(row)):
+    def is_clash(self, row, told, table):
+        """Return whether what is told gives the sum of zeros in a table, but not 0 of what is there."""
+        if not is_combination(table, self.spots_there(row), told) or any(sum_of(table, told)):
             return False
         return sum(row["pieces"][piece][part] * factor for (piece, part), factor in told) % self.table.prime != 0
 
@@ -241,7 +243,8 @@ class Beside:
         there = [piece for piece, values in enumerate(row["pieces"]) if values is not None]
         olds, news = plain.blinds(row["written"], there)
         if rows[0][0] > 0 and not mending:
-            raise Refused(errors.Unsure, is_right=lambda error: self.is_clash(row, error.found))
+            table = mixed(self.table, row["changed"], row["written"])
+            raise Refused(errors.Unsure, is_right=lambda error: self.is_clash(row, error.found, table))
         told = [(word, of) for word, blinds, of in [
             ("new", news, plain.new_of), ("old", olds, lambda data: data[: self.table.size])] if not blinds]  # fmt: skip
         rows = [item for item in rows if item[0] == rows[0][0]]

@@ -166,7 +166,8 @@ class AlikeTest(unittest.TestCase):
         self.assertEqual(alike(Table(3, 3, [[(1, 0, 0)]] * 6), Table(3, 3, [[(1, 1, 1)]] * 6))[0], (0, 1, 2, 3, 4, 5))
 
     def test_errors(self):
-        others = [Table(3, 2, [[(1, 0)]] * 3), Table(2, 1, [[(1,)]] * 3), Table(2, 2, [[(1, 0)]] * 2), Table(2, 2, [[(1, 0)]] * 4)]
+        others = [Table(3, 2, [[(1, 0)]] * 3), Table(2, 1, [[(1,)]] * 3)]
+        others += [Table(2, 2, [[(1, 0)]] * many) for many in (2, 4)]
         for other in ODD + [0, [], TABLE.pieces] + others:
             self.assertIs(raised(InvalidOperand, alike, TABLE, other).other, other)
             self.assertIs(raised(InvalidOperand, is_alike, TABLE, other, None).other, other)

@@ -470,7 +470,8 @@ class WayTest(unittest.TestCase):
             table = random_table(random, prime, size, counts)
             machines = random.randint(2, 3)
             where = [random.choice([None, 0, 0, 0, 1, 1]) for _ in counts]
-            prices = Prices([[random.randint(1, 4) for _ in parts] for parts in table.pieces], [3] * len(counts), [0] * len(counts))
+            parts = [[random.randint(1, 4) for _ in parts] for parts in table.pieces]
+            prices = Prices(parts, [3] * len(counts), [0] * len(counts))
             closed = random.choice([[], [], [0]])
             question = (random.choice([0, 0, 0, 1]), random.choice([0, 1, 1]), random.choice([2, 2, 3]))
             paper = told_by(move, NoWay, table, prices, Placing(machines, where), *question, closed)
@@ -498,8 +499,8 @@ class WayTest(unittest.TestCase):
             told.append(self.check(plain, placing, (cost, steps, tuple(random.sample(blocks, len(blocks) // 2)))))
             told.append(self.check(plain, placing, (cost, steps, blocks + blocks)))
             told.append(self.check(plain, placing, (cost, steps, ())))
-            wider = [(piece, machine, plain.table.spots_of([p for p in range(len(plain.table)) if placing.where[p] is not None]))
-                     for piece, machine, _ in steps[:1]]  # fmt: skip
+            there = [piece for piece, place in enumerate(placing.where) if place is not None]
+            wider = [(piece, machine, plain.table.spots_of(there)) for piece, machine, _ in steps[:1]]
             told.append(self.check(plain, placing, (cost, (*wider, *steps[1:]), blocks)))
         self.assertGreater(told.count(True), 40)
         self.assertGreater(told.count(False), 40)

@@ -103,7 +103,8 @@ class MixedTest(unittest.TestCase):
             self.assertTrue(type(old) is list and type(new) is list)
             for data in data_of(table.prime, table.size + len(changed)):
                 self.assertEqual(tuple(item(data) for item in old), data[: table.size])
-                self.assertEqual(tuple(item(data) for item in new), with_changes(data, changed, data[table.size :])[: table.size])
+                right = with_changes(data[: table.size], changed, data[table.size :])
+                self.assertEqual(tuple(item(data) for item in new), right)
         told = old_wishes(TABLE, [1])
         told.clear()
         self.assertEqual([item.factors for item in old_wishes(TABLE, [1])], [(1, 0, 0), (0, 1, 0)])
@@ -213,7 +214,8 @@ class MomentsTest(unittest.TestCase):
                 for written in subsets(plain.order):
                     block = unsafe(table, changed, written, most, gone)
                     right = plain.block(written)
-                    self.assertEqual(block, unsafe(table=table, changed=list(changed), written=list(written), most=most, gone=list(gone)))
+                    named = {"changed": list(changed), "written": list(written), "gone": list(gone)}
+                    self.assertEqual(block, unsafe(table=table, most=most, **named))
                     told.append(block is None)
                     self.assertEqual(right is None, block is None)
                     if block is not None:
