@@ -4,14 +4,15 @@ import unittest
 from random import Random
 
 from leastreads.costs import Prices
-from leastreads.errors import Unsure
+from leastreads.errors import Lost, Unsure
 from leastreads.journal import read_journal, write_journal
 from leastreads.store import Store
 from leastreads.tables import Table
+from leastreads.texts import certify, check
 from leastreads.wrong import strength
 from net_support import random_prices
 from store_support import Beside, StoreChecks
-from support import random_table, subsets
+from support import raised, random_table, subsets, units_of
 
 SHAPES = [
     (2, 1, [1, 1, 1], 3), (2, 2, [1, 1, 1], 4), (2, 2, [1, 1, 1, 1], 4), (3, 1, [1, 1, 1], 3), (3, 2, [1, 1, 1, 1], 5),
@@ -128,7 +129,23 @@ class LivesTest(StoreChecks, unittest.TestCase):
         self.assertTrue((again == store, many, why) == (True, len(beside.deeds), "end"))
         self.check_answers(again, beside)
         self.assertEqual(write_journal(again), text)
+        self.check_certificates(store, beside)
         return done
+
+    def check_certificates(self, store, beside):
+        """Check the certificates of the reads of all rows that are not lost."""
+        for name, thing in beside.objects.items():
+            for index, row in enumerate(thing["rows"]):
+                if row["lost"] or store.halted is not None:
+                    continue
+                gone = store.table.spots_of(beside.gone(row))
+                try:
+                    text = certify(store.table, store.cost, gone, units_of(store.table))
+                except Lost as error:
+                    self.assertEqual(raised(Lost, store.read, name, index).blind, error.blind)
+                    continue
+                self.assertIs(check(text), True)
+                self.assertIn(f"\nread {store.read(name, index)[1]}", text)
 
     def test_deeds_of_all_kinds(self):
         done = [item for seed in range(90) for item in self.live(seed, 70)]
